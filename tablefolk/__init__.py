@@ -1,0 +1,1 @@
+"""Tablefolk: what two of a few make, told by a table."""
