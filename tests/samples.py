@@ -1,6 +1,16 @@
-"""Folks to test with, made without the program, and what every test of told lists asks."""
+"""Folks to test with, made without the program, and what every test of refusals and told lists asks."""
 
-from itertools import permutations
+import unittest
+from itertools import permutations, product
+
+from tablefolk.errors import FolkError
+
+
+class Refusing(unittest.TestCase):
+    def refused(self, error, call):
+        with self.assertRaises(FolkError) as caught:
+            call()
+        self.assertIs(type(caught.exception), error)
 
 
 def table_of(members, make):
@@ -68,6 +78,11 @@ def plain_folks():
 
 def folks():
     return [renamed(table, names) for table in plain_folks() for names in name_orders(len(table))]
+
+
+def all_tables(size):
+    for numbers in product(range(size), repeat=size * size):
+        yield [list(numbers[size * row:size * (row + 1)]) for row in range(size)]
 
 
 def lists_within(value):

@@ -1,11 +1,9 @@
-import inspect
 import unittest
 from copy import deepcopy
 from itertools import product
 
 import samples
-from tablefolk import folks
-from tablefolk.errors import FolkError, NoElement, NoFolk, NoTable
+from tablefolk.errors import NoElement, NoFolk, NoTable
 from tablefolk.folks import back, done, flaw, order, rest
 
 FORTY = 10**39 + 7
@@ -30,11 +28,6 @@ def flaw_by_its_words(table):
     return None
 
 
-def all_tables(size):
-    for numbers in product(range(size), repeat=size * size):
-        yield [list(numbers[size * row:size * (row + 1)]) for row in range(size)]
-
-
 def asks(table, element=0):
     """Every function that asks for a folk, ready to be called."""
     return [
@@ -45,26 +38,7 @@ def asks(table, element=0):
     ]
 
 
-class Interface(unittest.TestCase):
-    def test_names_and_arguments(self):
-        wanted = {
-            "flaw": ["table"],
-            "rest": ["table"],
-            "back": ["table", "element"],
-            "order": ["table", "element"],
-            "done": ["table", "element", "times"],
-        }
-        for name, arguments in wanted.items():
-            found = inspect.signature(getattr(folks, name)).parameters
-            self.assertEqual(list(found), arguments, name)
-
-
-class Tables(unittest.TestCase):
-    def refused(self, error, call):
-        with self.assertRaises(FolkError) as caught:
-            call()
-        self.assertIs(type(caught.exception), error)
-
+class Tables(samples.Refusing):
     def test_no_table_is_refused_by_flaw(self):
         for table in samples.NO_TABLES:
             self.refused(NoTable, lambda: flaw(table))
@@ -120,7 +94,7 @@ class Flaws(unittest.TestCase):
 
     def test_every_small_table(self):
         for size in (1, 2, 3):
-            for table in all_tables(size):
+            for table in samples.all_tables(size):
                 self.assertEqual(flaw(table), flaw_by_its_words(table), table)
 
     def test_one_cell_off(self):

@@ -45,6 +45,14 @@ def bound_names(tree):
             yield node.id
 
 
+def names_of_the_top(tree):
+    for each in tree.body:
+        if isinstance(each, (ast.FunctionDef, ast.ClassDef)):
+            yield each.name
+        elif isinstance(each, ast.Assign):
+            yield each.targets[0].id
+
+
 def texts():
     return [path.read_bytes().decode("ascii") for path in FILES]
 
@@ -111,7 +119,7 @@ class Form(unittest.TestCase):
                     self.assertEqual(node.level, 0)
                     self.assertRegex(node.module, r"^tablefolk\.[a-z]+$")
                     source = ast.parse((PACKAGE / (node.module.split(".")[1] + ".py")).read_text())
-                    defined = [each.name for each in source.body if hasattr(each, "name")]
+                    defined = list(names_of_the_top(source))
                     for name in node.names:
                         self.assertIn(name.name, defined)
                         self.assertIsNone(name.asname)

@@ -1,10 +1,8 @@
-import inspect
 import unittest
 from copy import deepcopy
 from itertools import combinations
 
 import samples
-from tablefolk import parts as parts_file
 from tablefolk.errors import FolkError, NoElement, NoFolk, NoPart, NoTable, NotLoose
 from tablefolk.folks import flaw, rest
 from tablefolk.parts import is_loose, part_of, parts, shares, taken_out
@@ -45,28 +43,7 @@ def asks(table, some=(), part=(0,)):
     return calls + [lambda ask=ask: ask(table, part) for ask in BY_PART]
 
 
-class Refusing(unittest.TestCase):
-    def refused(self, error, call):
-        with self.assertRaises(FolkError) as caught:
-            call()
-        self.assertIs(type(caught.exception), error)
-
-
-class Interface(unittest.TestCase):
-    def test_names_and_arguments(self):
-        wanted = {
-            "part_of": ["table", "some"],
-            "parts": ["table"],
-            "shares": ["table", "part"],
-            "is_loose": ["table", "part"],
-            "taken_out": ["table", "part"],
-        }
-        for name, arguments in wanted.items():
-            found = inspect.signature(getattr(parts_file, name)).parameters
-            self.assertEqual(list(found), arguments, name)
-
-
-class TablesAndFolks(Refusing):
+class TablesAndFolks(samples.Refusing):
     def test_no_table_goes_ahead_of_all(self):
         for table in samples.NO_TABLES:
             for some, part in (((), (0,)), ((-1,), ()), ((99,), (99,))):
@@ -80,7 +57,7 @@ class TablesAndFolks(Refusing):
                     self.refused(NoFolk, call)
 
 
-class PartOf(Refusing):
+class PartOf(samples.Refusing):
     def test_of_none_it_is_the_rest(self):
         for table in samples.folks():
             self.assertEqual(part_of(table, []), [rest(table)])
@@ -155,7 +132,7 @@ class Shares(unittest.TestCase):
             self.assertEqual({len(share) for share in found}, {len(part)})
 
 
-class Loose(Refusing):
+class Loose(samples.Refusing):
     def test_is_loose(self):
         self.assertIs(is_loose(FLIPS, [0]), True)
         self.assertIs(is_loose(FLIPS, [0, 1, 2]), True)
@@ -193,7 +170,7 @@ class Loose(Refusing):
                     self.assertEqual(found[left[a][b]], made)
 
 
-class NoParts(Refusing):
+class NoParts(samples.Refusing):
     def test_lists_that_are_no_parts(self):
         wrong = [
             [],
